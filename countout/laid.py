@@ -16,15 +16,30 @@ def is_ring(thing):
 
 def row_out(hands, step, begin=0):
     """Give the hands in the order in which they go, the first count beginning at place begin."""
+    check_laid(hands, step, begin)
+    return counted_out(hands, step, begin)
+
+
+def check_laid(hands, step, begin):
+    """Refuse what cannot be laid out: no ring, no step, no place to begin at."""
     if not is_ring(hands):
         raise NoRing("a ring is a list of 1 to 200 texts, no two alike")
     check_step(step, GREATEST)
     check_place(begin, len(hands))
+
+
+def counted_out(hands, step, begin):
+    """Give whatever stands in the ring, taken for right, in the order in which it goes."""
     left = list(hands)
     gone = []
     at = begin
     while left:
-        # Whole rounds change nothing, so the remainder stands for a step of any length.
-        at = (at + step - 1) % len(left)
+        at = goes_next(len(left), step, at)
         gone.append(left.pop(at))
     return gone
+
+
+def goes_next(many, step, begin):
+    """Give the place of the one who goes, of so many that are left, counted from place begin."""
+    # Whole rounds change nothing, so the remainder stands for a step of any length.
+    return (begin + step - 1) % many

@@ -3,6 +3,7 @@
 import signal
 from collections import deque
 from contextlib import contextmanager
+from math import lcm
 
 from countout.errors import CountError
 
@@ -16,17 +17,53 @@ NO_NUMBERS = [
 ]
 
 
+def named(many):
+    """So many hands, no two alike."""
+    return [f"hand {at}" for at in range(many)]
+
+
+NO_RINGS = [
+    [], named(201), named(500),
+    ["a", "a"], ["a", "b", "a"], ["", "b", ""], named(199) + ["hand 0"], named(200) + ["hand 199"],
+    [1], [True], [None], [b"a"], [["a"]], [("a",)], [{}], [{"a"}], [object()], [str],
+    ["a", 1], [0, "a"], ["a", None], ["a", "b", b"c"], ["a", ["b"]], [["a"], ["a"]], [1, 1], ["a", "a", 3],
+    named(199) + [7],
+    (), ("a",), ("a", "b"), {}, {"a": 1}, {0: "a"}, {"a"}, {"a", "b"}, frozenset(["a"]), dict.fromkeys("ab").keys(),
+    "", "a", "abc", b"", b"abc", bytearray(b"ab"), range(3), iter(["a"]), (hand for hand in ["a"]),
+    0, 1, 3, -1, GREATEST, 1j, True, False, None, object(), list, named, ValueError(["a"]),
+]
+
+
+class ByHand:
+    """A ring gone round hand by hand, each count said aloud; whoever is told the next one stands in front."""
+
+    def __init__(self, hands, step, begin=0):
+        self.ring = deque(hands)
+        self.step = step
+        self.pass_by(begin)
+
+    def pass_by(self, times):
+        for _ in range(times):
+            self.ring.append(self.ring.popleft())
+
+    def count(self):
+        self.pass_by(self.step - 1)
+        return self.ring.popleft()
+
+    def rest(self):
+        """Those that are left, in the order in which they go; it is counted on in another ring."""
+        other = ByHand(self.ring, self.step)
+        return [other.count() for _ in range(len(other.ring))]
+
+
 def go_round(many, step, begin):
     """The places in the order in which they go, each count said aloud, one by one."""
-    ring = deque(range(many))
-    for _ in range(begin):
-        ring.append(ring.popleft())
-    order = []
-    while ring:
-        for _ in range(step - 1):
-            ring.append(ring.popleft())
-        order.append(ring.popleft())
-    return order
+    return ByHand(range(many), step, begin).rest()
+
+
+def lesser_step(many, step):
+    """A step that is less by whole rounds of every ring of at most so many: it goes the same way."""
+    return (step - 1) % lcm(*range(1, many + 1)) + 1
 
 
 def numbers_told(many, step):

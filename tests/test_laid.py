@@ -1,26 +1,9 @@
 import copy
 import unittest
-from math import lcm
 
 from countout.errors import NoPlace, NoRing, NoStep
 from countout.laid import is_ring, row_out
-from tests.helping import GREATEST, NO_NUMBERS, Refusals, go_round, no_delay
-
-
-def named(many):
-    return [f"hand {at}" for at in range(many)]
-
-
-NO_RINGS = [
-    [], named(201), named(500),
-    ["a", "a"], ["a", "b", "a"], ["", "b", ""], named(199) + ["hand 0"], named(200) + ["hand 199"],
-    [1], [True], [None], [b"a"], [["a"]], [("a",)], [{}], [{"a"}], [object()], [str],
-    ["a", 1], [0, "a"], ["a", None], ["a", "b", b"c"], ["a", ["b"]], [["a"], ["a"]], [1, 1], ["a", "a", 3],
-    named(199) + [7],
-    (), ("a",), ("a", "b"), {}, {"a": 1}, {0: "a"}, {"a"}, {"a", "b"}, frozenset(["a"]), dict.fromkeys("ab").keys(),
-    "", "a", "abc", b"", b"abc", bytearray(b"ab"), range(3), iter(["a"]), (hand for hand in ["a"]),
-    0, 1, 3, -1, GREATEST, 1j, True, False, None, object(), list, is_ring, ValueError(["a"]),
-]
+from tests.helping import GREATEST, NO_NUMBERS, NO_RINGS, Refusals, go_round, lesser_step, named, no_delay
 
 
 class IsRing(unittest.TestCase):
@@ -89,15 +72,12 @@ class RowOut(unittest.TestCase, Refusals):
                 self.assertEqual(row_out(named(many), step), expected)
 
     def test_steps_to_the_greatest_without_delay(self):
-        # A step that is less by whole rounds of every ring on the way goes the same way.
         for step in (GREATEST, GREATEST - 1, GREATEST // 3, 10 ** 30 + 7):
             for many in (1, 2, 5, 11, 12):
-                rounds = lcm(*range(1, many + 1))
                 for begin in (0, many - 1):
                     with no_delay():
                         found = row_out(named(many), step, begin)
-                    small = (step - 1) % rounds + 1
-                    expected = [f"hand {at}" for at in go_round(many, small, begin)]
+                    expected = [f"hand {at}" for at in go_round(many, lesser_step(many, step), begin)]
                     self.assertEqual(found, expected, (many, step, begin))
         with no_delay():
             self.assertEqual(sorted(row_out(named(200), GREATEST, 199)), sorted(named(200)))
